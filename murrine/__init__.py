@@ -1,0 +1,1 @@
+"""Murrine: glass rods with pictures in their cross-section."""

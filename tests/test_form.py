@@ -1,0 +1,114 @@
+"""The form of the package: what can be seen of its files, and the interface of what has landed."""
+
+import ast
+import inspect
+import pathlib
+import re
+import unittest
+
+from murrine import errors, faces, turning
+
+FOLDER = pathlib.Path(__file__).resolve().parent.parent / "murrine"
+
+BARRED_WORDS = [
+    "type", "typing", "typing_extensions", "enum", "Enum", "IntEnum", "StrEnum", "Flag", "IntFlag", "Generic",
+    "Protocol", "ABC", "ABCMeta", "namedtuple", "NamedTuple", "TypedDict", "TYPE_CHECKING", "abstractmethod",
+]
+
+BARRED_NODES = (ast.Global, ast.AsyncFunctionDef, ast.Await, ast.Div, ast.Import)
+
+FUNCTIONS = {
+    turning: {"after": ["one", "other"], "back_of": ["turning"], "goes_to": ["turning", "size", "x", "y"]},
+}
+
+METHODS = {
+    faces.Faces: {
+        "plain": ["colour"],
+        "four": ["a", "b", "c", "d"],
+        "depth": ["face"],
+        "quarters": ["face"],
+        "colour": ["face"],
+        "cell": ["face", "depth", "x", "y"],
+        "counts": ["face", "depth"],
+        "turned": ["face", "turning"],
+        "kind": ["face"],
+        "turning": ["one", "other"],
+        "apart": ["one", "other"],
+    },
+}
+
+
+def package_files():
+    """All files of the package, but not what Python itself keeps beside them."""
+    return [path for path in sorted(FOLDER.rglob("*")) if path.is_file() and "__pycache__" not in path.parts]
+
+
+class TestFiles(unittest.TestCase):
+    def test_there_are_only_plain_python_files(self):
+        self.assertTrue(package_files())
+        for path in package_files():
+            self.assertTrue(path.name == "__init__.py" or re.fullmatch(r"[a-z][a-z0-9_]*\.py", path.name), path)
+
+    def test_signs_and_sizes(self):
+        for path in package_files():
+            text = path.read_bytes().decode("utf-8")
+            self.assertTrue(all(sign == "\n" or " " <= sign <= "~" for sign in text), path)
+            rows = text.split("\n")
+            self.assertLessEqual(len(rows), 400, path)
+            for row in rows:
+                self.assertLessEqual(len(row), 120, path)
+
+    def test_barred_words(self):
+        for path in package_files():
+            words = re.findall(r"[A-Za-z0-9_]+", path.read_text())
+            self.assertEqual([word for word in words if word in BARRED_WORDS], [], path)
+
+    def test_nodes(self):
+        for path in package_files():
+            for node in ast.walk(ast.parse(path.read_text())):
+                self.assertNotIsInstance(node, BARRED_NODES, path)
+                if isinstance(node, ast.Constant):
+                    self.assertNotIsInstance(node.value, (float, complex), path)
+                    if isinstance(node.value, str):
+                        self.assertNotIn("%", node.value, path)
+                if isinstance(node, ast.ImportFrom):
+                    self.assertEqual(node.level, 0, path)
+                    self.assertTrue(node.module.startswith("murrine."), path)
+                    self.assertNotIn("*", [name.name for name in node.names], path)
+
+    def test_functions_and_names(self):
+        for path in package_files():
+            for node in ast.walk(ast.parse(path.read_text())):
+                if isinstance(node, ast.FunctionDef):
+                    self.assertLessEqual(node.end_lineno - node.lineno + 1, 40, node.name)
+                    self.assertTrue(node.name == "__init__" or not node.name.startswith("_"), node.name)
+                if isinstance(node, ast.Name):
+                    self.assertFalse(node.id.startswith("_"), node.id)
+                if isinstance(node, ast.Attribute):
+                    self.assertTrue(node.attr == "__init__" or not node.attr.startswith("_"), node.attr)
+
+
+class TestInterface(unittest.TestCase):
+    def test_functions(self):
+        for module, functions in FUNCTIONS.items():
+            for name, arguments in functions.items():
+                function = getattr(module, name)
+                self.assertEqual(function.__module__, module.__name__)
+                self.assertEqual(list(inspect.signature(function).parameters), arguments)
+
+    def test_methods_stand_in_the_class_itself(self):
+        for made, methods in METHODS.items():
+            for name, arguments in methods.items():
+                self.assertIn(name, vars(made))
+                self.assertEqual(list(inspect.signature(vars(made)[name]).parameters), ["self"] + arguments)
+
+    def test_a_store_is_made_of_nothing(self):
+        self.assertEqual(list(inspect.signature(faces.Faces).parameters), [])
+        self.assertEqual(faces.Faces.__module__, "murrine.faces")
+
+    def test_bad_page_has_its_field(self):
+        self.assertIn("at", vars(errors.BadPage(2)))
+
+
+if __name__ == "__main__":
+    unittest.main()
