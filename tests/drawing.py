@@ -95,3 +95,16 @@ def at_once(work, most=100000):
         return work()
     finally:
         sys.settrace(before)
+
+
+def all_told(faces):
+    """What a store tells of each of its faces, to see that a refused call changed nothing."""
+    return [
+        (faces.depth(face), faces.quarters(face), faces.colour(face), faces.counts(face, 12))
+        for face in range(met(faces))
+    ]
+
+
+def texts(rows):
+    """Rows of colours as the texts of a small picture."""
+    return ["".join(str(colour) for colour in row) for row in rows]

@@ -5,6 +5,7 @@ import unittest
 from murrine import errors
 from murrine.errors import BadPage, GlassError
 from murrine.faces import Faces
+from wording import check_words
 
 NAMES = [
     "BadColour", "NoFace", "TooDeep", "BadDepth", "NoCell", "BadTurn", "BadPicture", "NoRod", "BadThickness",
@@ -71,13 +72,7 @@ class TestWords(unittest.TestCase):
             lambda: faces.turning(99, face), lambda: faces.turning(face, huge), lambda: faces.apart(99, face),
             lambda: faces.apart(face, 99),
         ]
-        for at, call in enumerate(calls):
-            with self.subTest(at):
-                with self.assertRaises(GlassError) as told:
-                    call()
-                words = str(told.exception)
-                self.assertTrue(words)
-                self.assertFalse(any(sign.isdigit() for sign in words), words)
+        check_words(self, calls)
 
 
 if __name__ == "__main__":

@@ -6,7 +6,7 @@ import pathlib
 import re
 import unittest
 
-from murrine import errors, faces, turning
+from murrine import deeds, errors, faces, needs, pictures, turning
 
 FOLDER = pathlib.Path(__file__).resolve().parent.parent / "murrine"
 
@@ -19,6 +19,9 @@ BARRED_NODES = (ast.Global, ast.AsyncFunctionDef, ast.Await, ast.Div, ast.Import
 
 FUNCTIONS = {
     turning: {"after": ["one", "other"], "back_of": ["turning"], "goes_to": ["turning", "size", "x", "y"]},
+    pictures: {"rows_of": ["faces", "face", "depth"], "face_of": ["faces", "rows"]},
+    needs: {"part_kinds": ["faces", "face"], "needed": ["faces", "face", "have"]},
+    deeds: {"is_deed": ["deed"], "written": ["deed"], "read": ["line"]},
 }
 
 METHODS = {
