@@ -14,6 +14,18 @@ NUMBERS = {
     "waste": 1,
 }
 
+# By name, how many of the numbers, from the first on, are rods that are there already.
+RODS = {
+    "gather": 0,
+    "pull": 1,
+    "bundle": 4,
+    "turn": 1,
+    "cut": 1,
+    "fuse": 2,
+    "sell": 1,
+    "waste": 1,
+}
+
 GREATEST = 999999999999999999
 MOST_FIGURES = 18
 

@@ -5,6 +5,10 @@ import unittest
 from murrine import errors
 from murrine.errors import BadPage, GlassError
 from murrine.faces import Faces
+from murrine.orders import Order
+from murrine.pages import read_page
+from murrine.plans import plan
+from murrine.shop import Shop
 from wording import check_words
 
 NAMES = [
@@ -73,6 +77,41 @@ class TestWords(unittest.TestCase):
             lambda: faces.apart(face, 99),
         ]
         check_words(self, calls)
+
+    def test_words_of_a_shop_hold_no_number(self):
+        shop = Shop(Faces())
+        for thickness, length in [(12, 4)] * 4 + [(12, 5), (0, 4)]:
+            shop.gather(1, thickness, length)
+        huge = 10 ** 5000
+        check_words(self, [
+            lambda: shop.gather(10, 1, 1), lambda: shop.gather(-huge, 1, 1), lambda: shop.gather(1, 13, 1),
+            lambda: shop.gather(1, huge, 1), lambda: shop.gather(1, 1, 0), lambda: shop.gather(1, 1, huge),
+            lambda: shop.pull(99, 1), lambda: shop.pull(1, 0), lambda: shop.pull(1, -huge), lambda: shop.pull(1, 13),
+            lambda: shop.pull(1, huge), lambda: shop.bundle(1, 2, 3, 99), lambda: shop.bundle(1, 2, 3, 3),
+            lambda: shop.bundle(1, 2, 3, 5), lambda: shop.bundle(1, 2, 3, 4), lambda: shop.turn(huge, 1),
+            lambda: shop.turn(1, 8), lambda: shop.turn(1, -huge), lambda: shop.cut(99, 1), lambda: shop.cut(1, 4),
+            lambda: shop.cut(1, huge), lambda: shop.fuse(1, 99), lambda: shop.fuse(1, 1), lambda: shop.fuse(1, 6),
+            lambda: shop.sell(-huge), lambda: shop.waste(99), lambda: shop.do(("sell",)), lambda: shop.do(()),
+            lambda: shop.do(("sell", huge)), lambda: shop.rod(99), lambda: shop.redo(),
+            lambda: [shop.undo() for _ in range(7)],
+        ])
+
+    def test_words_of_plans_orders_and_pages_hold_no_number(self):
+        faces = Faces()
+        shop = Shop(faces)
+        for colour in (1, 2, 3, 4):
+            shop.gather(colour, 1, 4)
+        face, huge = shop.rod(shop.bundle(1, 2, 3, 4))[0], 10 ** 5000
+        wishes = [
+            (99, 1, 1, []), (face, 13, 1, []), (face, huge, 1, []), (face, 0, 1, []), (face, 1, 1000001, []),
+            (face, 1, huge, []), (face, 1, 1, [99]), (face, 1, 1, [huge]), (face, 1, 1, [5, 5]), (face, 3, 1, [5]),
+        ]
+        check_words(self, [lambda wish=wish: plan(shop, *wish) for wish in wishes])
+        check_words(self, [lambda wish=wish: Order(shop, *wish) for wish in wishes])
+        order = Order(shop, face, 2, 4, [5])
+        for _ in range(order.left()):
+            order.step()
+        check_words(self, [order.step, lambda: read_page(faces, "sell 7"), lambda: read_page(faces, "melt 7")])
 
 
 if __name__ == "__main__":

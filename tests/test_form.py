@@ -6,7 +6,7 @@ import pathlib
 import re
 import unittest
 
-from murrine import deeds, errors, faces, needs, pictures, turning
+from murrine import deeds, errors, faces, needs, orders, pages, pictures, plans, shop, turning
 
 FOLDER = pathlib.Path(__file__).resolve().parent.parent / "murrine"
 
@@ -22,6 +22,8 @@ FUNCTIONS = {
     pictures: {"rows_of": ["faces", "face", "depth"], "face_of": ["faces", "rows"]},
     needs: {"part_kinds": ["faces", "face"], "needed": ["faces", "face", "have"]},
     deeds: {"is_deed": ["deed"], "written": ["deed"], "read": ["line"]},
+    plans: {"plan": ["shop", "face", "thickness", "length", "use"]},
+    pages: {"page": ["shop"], "read_page": ["faces", "text"]},
 }
 
 METHODS = {
@@ -38,6 +40,34 @@ METHODS = {
         "turning": ["one", "other"],
         "apart": ["one", "other"],
     },
+    shop.Shop: {
+        "gather": ["colour", "thickness", "length"],
+        "pull": ["rod", "steps"],
+        "bundle": ["a", "b", "c", "d"],
+        "turn": ["rod", "turning"],
+        "cut": ["rod", "length"],
+        "fuse": ["one", "other"],
+        "sell": ["rod"],
+        "waste": ["rod"],
+        "do": ["deed"],
+        "undo": [],
+        "redo": [],
+        "twin": [],
+        "store": [],
+        "rod": ["number"],
+        "rods": [],
+        "glass": [],
+        "bundled": [],
+        "deeds": [],
+        "look": [],
+    },
+    orders.Order: {"left": [], "step": [], "wish": []},
+}
+
+MADE_OF = {
+    faces.Faces: [],
+    shop.Shop: ["faces"],
+    orders.Order: ["shop", "face", "thickness", "length", "use"],
 }
 
 
@@ -105,9 +135,32 @@ class TestInterface(unittest.TestCase):
                 self.assertIn(name, vars(made))
                 self.assertEqual(list(inspect.signature(vars(made)[name]).parameters), ["self"] + arguments)
 
-    def test_a_store_is_made_of_nothing(self):
-        self.assertEqual(list(inspect.signature(faces.Faces).parameters), [])
+    def test_classes(self):
+        for made, arguments in MADE_OF.items():
+            self.assertEqual(list(inspect.signature(made).parameters), arguments)
         self.assertEqual(faces.Faces.__module__, "murrine.faces")
+        self.assertEqual(shop.Shop.__module__, "murrine.shop")
+        self.assertEqual(orders.Order.__module__, "murrine.orders")
+
+    def test_arguments_by_name(self):
+        store = faces.Faces()
+        made = shop.Shop(faces=store)
+        for colour in (1, 2, 3, 4):
+            made.gather(colour=colour, thickness=1, length=4)
+        made.bundle(a=1, b=2, c=3, d=4)
+        made.pull(rod=5, steps=1)
+        made.turn(rod=5, turning=1)
+        made.cut(rod=5, length=3)
+        made.fuse(one=5, other=6)
+        made.cut(rod=5, length=8)
+        made.sell(rod=5)
+        made.do(deed=("gather", 1, 1, 1))
+        face = made.rod(number=7)[0]
+        deeds_told, number = plans.plan(shop=made, face=face, thickness=1, length=8, use=[7])
+        order = orders.Order(shop=made, face=face, thickness=1, length=8, use=[7])
+        self.assertEqual((order.left(), number), (len(deeds_told), 7))
+        text = pages.page(shop=made)
+        self.assertEqual(pages.read_page(faces=store, text=text).look(), made.look())
 
     def test_bad_page_has_its_field(self):
         self.assertIn("at", vars(errors.BadPage(2)))
