@@ -3,8 +3,9 @@
 import unittest
 
 from glazing import done_all, stand
+from murrine.deeds import NUMBERS, RODS
 from murrine.errors import (
-    BadColour, BadDeed, BadLength, BadSteps, BadThickness, BadTurn, NoRod, TooThick, TooThin, Twice, Unlike,
+    BadColour, BadDeed, BadLength, BadSteps, BadThickness, BadTurn, GlassError, NoRod, TooThick, TooThin, Twice, Unlike,
 )
 from murrine.faces import Faces
 from murrine.shop import Shop
@@ -109,6 +110,22 @@ class TestDo(unittest.TestCase):
                 with self.assertRaises(refusal):
                     call()
                 self.assertEqual(stand(self.shop), before)
+
+    def test_which_numbers_of_a_deed_are_rods(self):
+        done_all(self.shop, FIRST)
+        rods = {name: 0 for name in NUMBERS}
+        for name in NUMBERS:
+            for place in range(NUMBERS[name]):
+                deed = [name] + [1] * NUMBERS[name]
+                deed[1 + place] = GREATEST
+                try:
+                    self.shop.do(tuple(deed))
+                except GlassError as refusal:
+                    if isinstance(refusal, NoRod):
+                        # Rods stand ahead of all other numbers.
+                        self.assertEqual(rods[name], place)
+                        rods[name] += 1
+        self.assertEqual(rods, RODS)
 
     def test_the_greatest_cut(self):
         done_all(self.shop, [("gather", 1, 12, 999999999999999), ("pull", 1, 12), ("cut", 1, GREATEST)])
