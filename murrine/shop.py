@@ -187,7 +187,7 @@ class Shop:
 
     def look(self):
         """All rods with their numbers, the next number, the glass, and the bundled faces."""
-        rods = [(number, *self.racks[number]) for number in self.rods()]
+        rods = [(number,) + self.racks[number] for number in self.rods()]
         return (rods, self.coming, self.glass(), self.bundled())
 
     def record(self, deed, rods):
